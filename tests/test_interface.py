@@ -1,0 +1,44 @@
+"""The names, arguments and homes of what the document's interface lists."""
+
+import importlib
+import inspect
+import os
+import unittest
+
+import unwrittenrow
+
+FUNCTIONS = {
+    "forms": """is_integer(thing) is_fraction(thing) is_letter(thing) is_word(thing) is_measure(thing)
+        is_member(measure,thing) is_lot(measure,thing) is_model(thing) is_block(thing)
+        are_facts(measure,n,thing) is_name(thing) are_coins(thing) is_enclosure(thing)
+        is_word_of(measure,thing) letters_of(measure)""",
+    "fractions": """reduced(n,d) added(one,other) times(one,other) over(one,other) half_to(e)
+        compared(one,other) decimal_below(one,places) decimal_above(one,places)""",
+    "measures": """product(measure,x,y) measure_of(measure,word) power_of(measure,x,n) reached(measure)
+        right_closed(measure,lot) left_closed(measure,lot) led_from(measure,x,lot) led_to(measure,x,lot)
+        beside(one,other) is_right_ideal(measure,lot) is_left_ideal(measure,lot) is_same(one,other)""",
+}
+
+
+class TheInterface(unittest.TestCase):
+    def test_functions_are_defined_where_they_are_listed(self):
+        for file, listed in FUNCTIONS.items():
+            module = importlib.import_module(f"unwrittenrow.{file}")
+            for entry in listed.split():
+                name, arguments = entry.rstrip(")").split("(")
+                with self.subTest(file=file, name=name):
+                    function = getattr(module, name)
+                    self.assertTrue(inspect.isfunction(function))
+                    self.assertEqual(function.__module__, module.__name__)
+                    parameters = inspect.signature(function).parameters.values()
+                    self.assertEqual([one.name for one in parameters], arguments.split(","))
+                    for one in parameters:
+                        self.assertEqual(one.kind, one.POSITIONAL_OR_KEYWORD)
+                        self.assertIs(one.default, one.empty)
+
+    def test_the_package_file_is_empty(self):
+        self.assertEqual(os.path.getsize(unwrittenrow.__file__), 0)
+
+
+if __name__ == "__main__":
+    unittest.main()
