@@ -17,6 +17,15 @@ FUNCTIONS = {
     "measures": """product(measure,x,y) measure_of(measure,word) power_of(measure,x,n) reached(measure)
         right_closed(measure,lot) left_closed(measure,lot) led_from(measure,x,lot) led_to(measure,x,lot)
         beside(one,other) is_right_ideal(measure,lot) is_left_ideal(measure,lot) is_same(one,other)""",
+    "wishes": """is_wish(thing) takes(wish,word) measure_of_wishes(letters,wishes) holding(letters,word)
+        ending(letters,word) at_least(letters,letter,many) counted(letters,letter,turns,lot)
+        both(one,other) either(one,other) not_taken(wish)""",
+    "models": """measure_in(model) letters_in(model) states_of(model) weight_of(model,word)
+        total_of(model,n) prices_of(model,word) words_of(model,n) with_measure(model,measure)
+        turned_back(model) called(model,names) mixed(one,other,a,b) behind(one,other) trimmed(model)
+        kept_to(model,wish)""",
+    "shower": "show_model(model) show_facts(facts) show_coins(coins)",
+    "reader": "read_model(text) read_facts(measure,n,text) read_coins(text)",
 }
 
 
