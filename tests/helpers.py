@@ -1,4 +1,4 @@
-"""What several tests need: values of any kind, changed things, WORDS, MEASURES, MODELS."""
+"""What several tests need: values of any kind, changed things, WORDS, MEASURES, MODELS, FACTS."""
 
 import copy
 import itertools
@@ -189,6 +189,92 @@ def weight_by_walks(model, word):
 def weights_by_walks(model, letters, n):
     """Return the dict from all WORDS of at most n LETTERS to their WEIGHTS, gone through one by one."""
     return {word: weight_by_walks(model, word) for word in words_up_to(letters, n)}
+
+
+def places_in(block):
+    return set(range(block[0], block[1]))
+
+
+def cross(one, other):
+    """Tell by their places whether two BLOCKS CROSS."""
+    mine, its = places_in(one), places_in(other)
+    return bool(mine & its) and not mine <= its and not its <= mine
+
+
+def some_facts(chance, measure, n, most, empty=0.1):
+    """Return FACTS for n made by chance; some lots are () or all."""
+    facts = []
+    for _ in range(chance.randint(0, most)):
+        i = chance.randrange(n)
+        j = min(n, i + chance.choice((1, 2, 3, n)))
+        members = range(len(measure[0]))
+        lot = tuple([x for x in members if chance.random() < 0.6])
+        if chance.random() < 0.15:
+            lot = tuple(members)
+        if lot == () and chance.random() > empty:
+            lot = (chance.choice(members),)
+        if not any(cross((i, j), fact[:2]) or (i, j) == fact[:2] for fact in facts):
+            facts.append((i, j, lot))
+    return tuple(sorted(facts))
+
+
+def moved_along(facts, far):
+    """Return FACTS with each place so much further on."""
+    return tuple([(i + far, j + far, lot) for i, j, lot in facts])
+
+
+def measure_by_table(measure, word):
+    members = dict(measure[1])
+    x = 0
+    for letter in word:
+        x = measure[0][x][members[letter]]
+    return x
+
+
+def meets(measure, word, facts):
+    """Tell whether a WORD MEETS FACTS."""
+    return all(measure_by_table(measure, word[i:j]) in lot for i, j, lot in facts)
+
+
+def swept(model, n, facts, begins=None, stretch=(0, 0), arcs_at=None):
+    """Return the dict from (q, m), m being the MEASURE of the stretch, to the PRICES together.
+
+    It goes through the places from left to right, with the MEASURES of all FACTS that are
+    begun; begins takes the place of that of the MODEL. arcs_at(x, arc) tells which arcs may be
+    taken at a place.
+    """
+    (table, values), own_begins, _, arcs = model
+    members = dict(values)
+    begins = own_begins if begins is None else begins
+    sums = {(p, 0, ()): begin for p, begin in enumerate(begins) if begin}
+    for x in range(n):
+        later = {}
+        for (p, m, begun), price in sums.items():
+            begun = begun + tuple([(fact, 0) for fact in facts if fact[0] == x])
+            for arc in arcs:
+                if arc[0] != p or (arcs_at is not None and not arcs_at(x, arc)):
+                    continue
+                y = members[arc[1]]
+                told = [(fact, table[z][y]) for fact, z in begun]
+                if any(fact[1] == x + 1 and z not in fact[2] for fact, z in told):
+                    continue
+                state = (
+                    arc[2], table[m][y] if stretch[0] <= x < stretch[1] else m,
+                    tuple([(fact, z) for fact, z in told if fact[1] > x + 1]),
+                )
+                later[state] = later.get(state, 0) + price * arc[3]
+        sums = later
+    return {(q, m): price for (q, m, _), price in sums.items()}
+
+
+def swept_weights(model, places, facts):
+    """Return V of the BLOCK (0, places) under FACTS, from left to right."""
+    found = {}
+    for p in range(len(model[1])):
+        begins = [int(q == p) for q in range(len(model[1]))]
+        for (q, m), price in swept(model, places, facts, begins, (0, places)).items():
+            found[(p, q, m)] = price
+    return found
 
 
 def leaves_alone(test, call, *arguments):

@@ -26,6 +26,14 @@ FUNCTIONS = {
         kept_to(model,wish)""",
     "shower": "show_model(model) show_facts(facts) show_coins(coins)",
     "reader": "read_model(text) read_facts(measure,n,text) read_coins(text)",
+    "blocks": """middle_of(facts,block) halves_of(facts,block) facts_in(facts,block) with_fact(facts,fact)
+        lot_at(facts,block) way_to(n,facts,x) tree_blocks(n,facts) is_in_tree(n,facts,block)
+        are_crossing(one,other)""",
+    "lengths": """lengths_of(model) lots_of(model) lot_of_length(model,n) least_course(course)
+        has_length(model,n) item_at(course,n) length_from(model,n)""",
+    "support": """support_of(model,facts,block) members_at(model,n,facts,i,j) letters_at(model,n,facts,x)
+        states_at(model,n,facts,x) is_possible(model,n,facts) can_be(model,n,facts,more)""",
+    "weights": "weights_of(model,facts,block) shares_of_ends(model,weights) total_under(model,n,facts)",
 }
 
 

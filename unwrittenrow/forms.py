@@ -40,6 +40,18 @@ def are_ascending_below(thing, bound):
     return all([is_within(item, 0, bound - 1) for item in thing]) and is_ascending(thing)
 
 
+def is_same_value(one, other):
+    """Tell whether two values are the same, a truth never being taken for a number in them."""
+    if one != other or isinstance(one, bool) != isinstance(other, bool):
+        return False
+    if isinstance(one, (list, tuple)):
+        return all([is_same_value(mine, its) for mine, its in zip(one, other)])
+    if isinstance(one, dict):
+        keys = {key: key for key in other}
+        return all([is_same_value((key, one[key]), (keys[key], other[key])) for key in one])
+    return True
+
+
 def is_fraction(thing):
     """Tell whether any value is a FRACTION."""
     if not is_tuple(thing, 2, 2):
