@@ -3,7 +3,7 @@
 import doctest
 import unittest
 
-STAGES = ("stage_1", "stage_2", "stage_3", "stage_4", "stage_5")
+STAGES = ("stage_1", "stage_2", "stage_3", "stage_4", "stage_5", "stage_6", "stage_7")
 
 
 def load_tests(loader, tests, pattern):

@@ -34,6 +34,13 @@ FUNCTIONS = {
     "support": """support_of(model,facts,block) members_at(model,n,facts,i,j) letters_at(model,n,facts,x)
         states_at(model,n,facts,x) is_possible(model,n,facts) can_be(model,n,facts,more)""",
     "weights": "weights_of(model,facts,block) shares_of_ends(model,weights) total_under(model,n,facts)",
+    "enclosures": """compared(one,other) around(lows,highs,bits) exact_one(x) product_of(one,other)
+        sum_of(enclosures,bits) trimmed(enclosure,bits) holds(enclosure,x) lies_in(one,other)""",
+    "tables": """keys_needed(facts,blocks) made_tables(model,facts,blocks,bits) are_tables(model,facts,thing)
+        enclosed(tables,facts,block)""",
+    "coins": "spring(seed,name,k) coin(coins,name,k) beginning(coins,name,d) with_told(coins,name,truths)",
+    "choices": """made_by(shares,c,d) chosen(shares,coins,name,most) shown_within(numbers,coins,name,most)
+        times_made(shares,index,d) times_none(shares,d) is_shown(numbers,index,c,d)""",
 }
 
 
