@@ -3,7 +3,7 @@
 import doctest
 import unittest
 
-STAGES = ("stage_1", "stage_2", "stage_3", "stage_4", "stage_5", "stage_6", "stage_7")
+STAGES = tuple([f"stage_{at}" for at in range(1, 10)])
 
 
 def load_tests(loader, tests, pattern):

@@ -41,6 +41,12 @@ FUNCTIONS = {
     "coins": "spring(seed,name,k) coin(coins,name,k) beginning(coins,name,d) with_told(coins,name,truths)",
     "choices": """made_by(shares,c,d) chosen(shares,coins,name,most) shown_within(numbers,coins,name,most)
         times_made(shares,index,d) times_none(shares,d) is_shown(numbers,index,c,d)""",
+    "asks": "is_ask(measure,n,thing) is_answer(measure,ask,thing) plain_answer(measure,word,ask)",
+    "rows": """first_things(model,n,facts) things_of(model,facts,block,stand) opened(model,n,facts,coins,ask,most)
+        answer_of(model,n,facts,coins,ask,most) row_of(model,n,facts,coins,most)
+        stand_of(model,n,facts,coins,block,most)""",
+    "papers": "answer_by(measure,n,facts,ask,things) shares_in(model,facts,tables,name,stand)",
+    "makers": """paper_of(model,n,facts,coins,ask,bits,most) answered(model,n,facts,coins,ask,bits,most)""",
 }
 
 

@@ -55,6 +55,8 @@ def names_bound(tree):
             yield node.lineno, node.arg
         elif isinstance(node, (ast.FunctionDef, ast.ClassDef)):
             yield node.lineno, node.name
+        elif isinstance(node, ast.ExceptHandler) and node.name is not None:
+            yield node.lineno, node.name
 
 
 def names_at_top(tree):
@@ -140,16 +142,25 @@ def look_at_names(file):
             file.fault(f"L15 {name}", line)
 
 
-def look_at_nodes(file, own):
+def is_plain_try(node, errors):
+    """Whether a try has one handler, of one own error."""
+    if len(node.handlers) != 1 or node.orelse or node.finalbody:
+        return False
+    return isinstance(node.handlers[0].type, ast.Name) and node.handlers[0].type.id in errors
+
+
+def look_at_nodes(file, own, errors):
     top = set(names_at_top(file.tree)) | {name for _, name in names_bound(file.tree)}
     for node in ast.walk(file.tree):
         line = getattr(node, "lineno", 0)
         if isinstance(node, ast.FunctionDef) and (node.end_lineno - node.lineno >= 40 or node.decorator_list):
             file.fault("L10 L4", line)
-        if isinstance(node, (ast.Global, ast.Import, ast.Try, ast.With, ast.Match, ast.Yield, ast.AsyncFunctionDef)):
+        if isinstance(node, (ast.Global, ast.Import, ast.With, ast.Match, ast.Yield, ast.AsyncFunctionDef)):
             file.fault("L6, or what the program does without", line)
+        if isinstance(node, ast.Try) and not is_plain_try(node, errors):
+            file.fault("L19, or what the program does without", line)
         if isinstance(node, ast.GeneratorExp):
-            file.fault("L7 (a class with == is to come)", line)
+            file.fault("L7 (classes have ==)", line)
         if isinstance(node, ast.BinOp) and isinstance(node.op, ast.Div):
             file.fault("L7", line)
         if isinstance(node, ast.BinOp) and isinstance(node.op, ast.Pow) and not is_small(node.right):
@@ -194,15 +205,35 @@ def faults_in(folder):
         look_at_text(file)
         look_at_top(file, files)
         look_at_names(file)
-        look_at_nodes(file, own)
+        look_at_nodes(file, own, names_at_top(files["errors"].tree))
         look_at_strings(file)
     return [fault for file in files.values() for fault in file.faults]
+
+
+def names_of_class(node):
+    """Return the names of the methods of a class, and those of the attributes that they assign to their object."""
+    methods = {part.name for part in node.body if isinstance(part, ast.FunctionDef)}
+    attributes = {
+        part.attr for part in ast.walk(node) if isinstance(part, ast.Attribute) and isinstance(part.ctx, ast.Store)
+    }
+    return methods, attributes
 
 
 class TheLanguage(unittest.TestCase):
     def test_the_folder_holds_files_of_python_alone(self):
         for name in os.listdir(FOLDER):
             self.assertTrue(re.fullmatch(r"[a-z_][a-z0-9_]*\.py", name) or name == "__pycache__", name)
+
+    def test_no_name_is_a_method_and_an_attribute(self):
+        # L18 forbids it in one class alone.
+        methods, attributes = set(), set()
+        for name in sorted(os.listdir(FOLDER)):
+            if name.endswith(".py"):
+                for node in ast.walk(File(os.path.join(FOLDER, name)).tree):
+                    if isinstance(node, ast.ClassDef):
+                        mine, its = names_of_class(node)
+                        methods, attributes = methods | mine, attributes | its
+        self.assertEqual(methods & attributes, set())
 
     def test_the_rules(self):
         self.assertEqual(faults_in(FOLDER), [])

@@ -16,10 +16,18 @@ def keys_needed(facts, blocks):
 
 def made_tables(model, facts, blocks, bits):
     """Return the TABLES of BLOCKS and of all that lie in them, each ENCLOSURE with so many bits."""
+    return tables_beside(model, facts, blocks, bits, {})
+
+
+def tables_beside(model, facts, blocks, bits, known):
+    """Return the TABLES that `made_tables` does; those of some KEYS, known already, are not made anew."""
     made = {}
     for key in keys_within(facts, blocks):
-        parts = _parts_at(model, facts, key, made)
-        made[key] = {stand: sum_of(parts[stand], bits) for stand in sorted(parts)}
+        if key in known:
+            made[key] = known[key]
+        else:
+            parts = _parts_at(model, facts, key, made)
+            made[key] = {stand: sum_of(parts[stand], bits) for stand in sorted(parts)}
     return {key: made[key] for key in keys_needed(facts, blocks)}
 
 

@@ -6,12 +6,17 @@ from unwrittenrow.models import states_of
 
 def weights_of(model, facts, block):
     """Return V of a BLOCK, the dict from the STANDS for which it is above 0."""
+    return weights_within(model, facts, [block])[key_of(facts, block)]
+
+
+def weights_within(model, facts, blocks):
+    """Return the dict from the KEYS of BLOCKS, and of all BLOCKS in them, to V."""
     found = {}
-    for key in keys_within(facts, [block]):
+    for key in keys_within(facts, blocks):
         weights = _weights_of_key(model, facts, key, found)
         lot = lot_of_key(facts, key)
         found[key] = {stand: weights[stand] for stand in sorted(weights) if lot is None or stand[2] in lot}
-    return found[key_of(facts, block)]
+    return found
 
 
 def _weights_of_key(model, facts, key, found):
