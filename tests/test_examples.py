@@ -3,7 +3,7 @@
 import doctest
 import unittest
 
-STAGES = tuple([f"stage_{at}" for at in range(1, 10)])
+STAGES = tuple([f"stage_{at}" for at in range(1, 13)])
 
 
 def load_tests(loader, tests, pattern):

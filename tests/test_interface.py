@@ -46,7 +46,24 @@ FUNCTIONS = {
         answer_of(model,n,facts,coins,ask,most) row_of(model,n,facts,coins,most)
         stand_of(model,n,facts,coins,block,most)""",
     "papers": "answer_by(measure,n,facts,ask,things) shares_in(model,facts,tables,name,stand)",
-    "makers": """paper_of(model,n,facts,coins,ask,bits,most) answered(model,n,facts,coins,ask,bits,most)""",
+    "makers": "paper_of(model,n,facts,coins,ask,bits,most) answered(model,n,facts,coins,ask,bits,most)",
+    "judging": """is_paper(model,n,facts,coins,ask,answer,thing)
+        first_amiss(model,n,facts,coins,ask,thing)""",
+    "chances": """chance_of_word(model,n,facts,word) chance_of_facts(model,n,facts) chance_of_fact(model,n,facts,fact)
+        share_by_coins(model,n,facts,word,d) total_around(model,n,facts,bits)
+        chance_between(model,n,facts,bits,digits)""",
+    "alike": """parting(one,other) is_parting(one,other,thing) is_alike_paper(one,other,thing) are_alike(one,other)
+        chance_by(model,word) track_of(one,other,word) value_of(one,other,track) alike_paper(one,other)
+        alike_kinds(models)""",
+    "house": """parts_of(house,question) papers_of(house,question) show_house(house) read_house(text)
+        are_papers(model,n,facts,coins,written,question,answer,thing)""",
+}
+
+
+CLASSES = {
+    "House": ("house", "model,n,coins,room", """model() coins() facts() length() room() remembered() written() put_fact(fact)
+        take_fact(block) write(x,letter) erase(x) undo() ask(question) twin()"""),
+    "Desk": ("desk", "house", "execute(line) house() twin()"),
 }
 
 
@@ -65,6 +82,19 @@ class TheInterface(unittest.TestCase):
                     for one in parameters:
                         self.assertEqual(one.kind, one.POSITIONAL_OR_KEYWORD)
                         self.assertIs(one.default, one.empty)
+
+    def test_methods_are_defined_in_their_classes(self):
+        for name, (file, arguments, listed) in CLASSES.items():
+            module = importlib.import_module(f"unwrittenrow.{file}")
+            self.assertEqual(getattr(module, name).__module__, module.__name__)
+            for entry in listed.split() + [f"__init__({arguments})", "__eq__(other)"]:
+                method, names = entry.rstrip(")").split("(")
+                with self.subTest(name=name, method=method):
+                    function = vars(getattr(module, name))[method]
+                    self.assertTrue(inspect.isfunction(function))
+                    parameters = inspect.signature(function).parameters
+                    self.assertEqual(list(parameters), ["self"] + [one for one in names.split(",") if one])
+                    self.assertTrue(all(one.default is one.empty for one in parameters.values()))
 
     def test_the_package_file_is_empty(self):
         self.assertEqual(os.path.getsize(unwrittenrow.__file__), 0)

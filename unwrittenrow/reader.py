@@ -12,11 +12,11 @@ def read_model(text):
     if not isinstance(text, str):
         raise Wrong(0)
     draft = ModelDraft()
-    for line, words in _lines_with_words(text):
+    for line, words in lines_with_words(text):
         if not draft.takes_line(words[0], words[1:]):
             raise NoText(line)
     if draft.ends is None:
-        raise NoText(_number_of_lines(text))
+        raise NoText(number_of_lines(text))
     return draft.as_model()
 
 
@@ -29,7 +29,7 @@ def read_facts(measure, n, text):
     if not isinstance(text, str):
         raise Wrong(2)
     facts = []
-    for line, words in _lines_with_words(text):
+    for line, words in lines_with_words(text):
         fact = _fact_in(words)
         if not are_facts(measure, n, (fact,)):
             raise NoText(line)
@@ -44,15 +44,15 @@ def read_coins(text):
     if not isinstance(text, str):
         raise Wrong(0)
     draft = CoinsDraft()
-    for line, words in _lines_with_words(text):
+    for line, words in lines_with_words(text):
         if not draft.takes_line(words[0], words[1:]):
             raise NoText(line)
     if draft.seed is None:
-        raise NoText(_number_of_lines(text))
+        raise NoText(number_of_lines(text))
     return draft.as_coins()
 
 
-def _lines_with_words(text):
+def lines_with_words(text):
     """Return the list of the tuples (index, words) of the lines that have words."""
     lines = [(line, _words_in(row)) for line, row in enumerate(text.split("\n"))]
     return [(line, words) for line, words in lines if words]
@@ -63,7 +63,7 @@ def _words_in(row):
     return [word for word in bare.split(" ") if word != ""]
 
 
-def _number_of_lines(text):
+def number_of_lines(text):
     return text.count("\n") + 1
 
 

@@ -6,17 +6,17 @@ from unwrittenrow.numerals import shown
 def show_model(model):
     """Return the text that shows a MODEL."""
     (table, values), begins, ends, arcs = model
-    lines = ["table " + " ; ".join([_in_a_row(row) for row in table])]
+    lines = ["table " + " ; ".join([in_a_row(row) for row in table])]
     lines.extend([f"letter {letter} {shown(member)}" for letter, member in values])
-    lines.append("begin " + _in_a_row(begins))
-    lines.append("end " + _in_a_row(ends))
+    lines.append("begin " + in_a_row(begins))
+    lines.append("end " + in_a_row(ends))
     lines.extend([f"arc {shown(p)} {letter} {shown(q)} {shown(w)}" for p, letter, q, w in arcs])
     return "\n".join(lines)
 
 
 def show_facts(facts):
     """Return the text that shows FACTS."""
-    return "\n".join(["fact " + _in_a_row((i, j) + lot) for i, j, lot in facts])
+    return "\n".join(["fact " + in_a_row((i, j) + lot) for i, j, lot in facts])
 
 
 def show_coins(coins):
@@ -27,10 +27,10 @@ def show_coins(coins):
 
 def _coin_line(name, k, coin):
     """Return the line that shows one told COIN."""
-    place = _in_a_row(name) if name else "whole"
+    place = in_a_row(name) if name else "whole"
     return f"coin {place} {shown(k)} " + ("yes" if coin else "no")
 
 
-def _in_a_row(numbers):
+def in_a_row(numbers):
     """Return numbers as words with blanks between them."""
     return " ".join([shown(number) for number in numbers])
