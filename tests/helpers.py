@@ -82,6 +82,8 @@ ONE = (((0,),), (("a", 0), ("b", 0)))
 CAP = (((0, 1, 2), (1, 2, 2), (2, 2, 2)), (("a", 0), ("b", 1)))
 # x * y is x but for x = 0, so x * y is not y * x.
 FIRSTS = (((0, 1, 2), (1, 1, 1), (2, 2, 2)), (("a", 1), ("b", 2)))
+# The other way about: x * y is y but for y = 0.
+LASTS = (((0, 1, 2), (1, 1, 2), (2, 1, 2)), (("a", 1), ("b", 2)))
 # A MEMBER that no WORD has.
 LONELY = (((0, 1, 2), (1, 1, 2), (2, 2, 2)), (("a", 0), ("b", 2)))
 

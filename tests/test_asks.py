@@ -3,7 +3,7 @@
 import unittest
 
 from tests.helpers import (
-    CAP, FIRSTS, LONELY, ONE, PARITY, any_values, changed, leaves_alone, lists_for_tuples, named_measures,
+    CAP, FIRSTS, LASTS, LONELY, ONE, PARITY, any_values, changed, leaves_alone, lists_for_tuples, named_measures,
     some_measures, truths_for_numbers, words_of_length, words_up_to,
 )
 from tests.plain_rows import all_asks, ideals, plain_meaning
@@ -55,7 +55,7 @@ class Asks(unittest.TestCase):
         return found
 
     def test_all_of_short_words(self):
-        for measure in named_measures()[:5] + some_measures(71, 10):
+        for measure in named_measures()[:5] + [LASTS] + some_measures(71, 10):
             for n in (1, 2, 4):
                 for ask in all_asks(measure, n):
                     self.assertIs(leaves_alone(self, is_ask, measure, n, ask), True)
@@ -95,11 +95,10 @@ class Asks(unittest.TestCase):
         # (1,) is a right ideal of FIRSTS, and no left one.
         self.assertIs(is_ask(FIRSTS, 4, ("first", 0, 4, (1,))), True)
         self.assertIs(is_ask(FIRSTS, 4, ("last", 0, 4, (1,))), False)
-        turned = (tuple(zip(*FIRSTS[0])), FIRSTS[1])
-        self.assertIs(is_ask(turned, 4, ("first", 0, 4, (1,))), False)
-        self.assertIs(is_ask(turned, 4, ("last", 0, 4, (1,))), True)
+        self.assertIs(is_ask(LASTS, 4, ("first", 0, 4, (1,))), False)
+        self.assertIs(is_ask(LASTS, 4, ("last", 0, 4, (1,))), True)
         met = 0
-        for measure in [FIRSTS, turned, LONELY] + some_measures(72, 20):
+        for measure in [FIRSTS, LASTS, LONELY] + some_measures(72, 20):
             for right in (True, False):
                 for lot in ideals(measure, right):
                     for kind in ("first", "last"):
@@ -127,7 +126,7 @@ class Asks(unittest.TestCase):
 class Meanings(unittest.TestCase):
     def test_all_asks_of_short_words(self):
         met = set()
-        for measure in named_measures()[:5] + some_measures(73, 12):
+        for measure in named_measures()[:5] + [LASTS] + some_measures(73, 12):
             for n in (1, 2, 4):
                 asks = all_asks(measure, n)
                 for word in words_of_length("ab", n):

@@ -11,7 +11,7 @@ from unwrittenrow.chances import chance_between
 from unwrittenrow.desk import Desk
 from unwrittenrow.errors import NoCommand, RowError
 from unwrittenrow.forms import are_facts
-from unwrittenrow.fractions import decimal_above, decimal_below
+from unwrittenrow.fractions import decimal_above, decimal_below, reduced
 from unwrittenrow.house import House, papers_of, read_house, show_house
 from unwrittenrow.support import members_at
 
@@ -71,7 +71,7 @@ class Commands(unittest.TestCase):
             "", "a", "03", "00", "-1", "+1", "3+", "3-", "3-4", "2^", "^2", "2^201", "2^-1", "2^03", "3^2", "2**3", "2^2^2", "2^2+", "2^2-5",
             "1+1+1", "1-1+1", "1+1-1", "1+-1", "1--1", "2^1+2^1", "1+2^1", "0x3", "3.0", "3e1", "1_0", "True", "~", "2 ^2",
             "1" + "0" * 61, "0+" + "1" + "0" * 61, "2^200-" + "1" + "0" * 61, "2^200-1" + "0" * 61, "2^200", "2^200+1", f"{FAR}",
-            "1" * 3000, "2^" + "1" * 3000, "1+03", "01+3", "2^2+03", "(3)", "3;", "#3", "'3'",
+            f"2^201-{2 ** 201 - 1}", f"2^201-{2 ** 200}", "1" * 3000, "2^" + "1" * 3000, "1+03", "01+3", "2^2+03", "(3)", "3;", "#3", "'3'",
         ]
         for word in bad:
             self.assertEqual(raised(desk.execute, f"letter {word}"), NO, word)
@@ -113,10 +113,39 @@ class Commands(unittest.TestCase):
                 self.assertEqual(desk.execute(f"can {i} {j}"), expected)
             least, most = chance_between(model, n, house.facts(), 128, 40)
             self.assertEqual(desk.execute(" chance "), [decimal_below(least, 10), decimal_above(most, 10)])
+        # Where 128 bits count, and where 40 digits do.
+        met = [0, 0]
+        for e in (92, 95, 98, 101, 104):
+            house = House(MODEL, 2 ** e, (0, ()), 0)
+            house.put_fact((2, 8, (1,)))
+            least, most = chance_between(MODEL, 2 ** e, house.facts(), 128, 40)
+            self.assertEqual(Desk(house).execute("chance"), [decimal_below(least, 10), decimal_above(most, 10)])
+            for at, bits in enumerate((127, 129)):
+                other = chance_between(MODEL, 2 ** e, house.facts(), bits, 40)
+                met[at] += decimal_below(other[0], 10) != decimal_below(least, 10)
+        self.assertGreater(min(met), 0)
+        for a, b, digits in ((1, 1, 40),) + self.where_digits_count():
+            house = House((PARITY, (1,), (1,), ((0, "a", 0, a), (0, "b", 0, b))), 1, (0, ()), 0)
+            house.put_fact((0, 1, (0,)))
+            least, most = chance_between(house.model(), 1, house.facts(), 128, 40)
+            self.assertEqual(Desk(house).execute("chance"), [decimal_below(least, 10), decimal_above(most, 10)])
         self.assertEqual(Desk(House(MODEL, 3, (0, ()), 0)).execute("chance"), ["1.0000000000", "1.0000000000"])
         odds = House((PARITY, (1,), (1,), ((0, "a", 0, 2), (0, "b", 0, 1))), 5, (0, ()), 0)
         odds.put_fact((0, 1, (0,)))
         self.assertEqual(Desk(odds).execute("chance"), ["0.6666666666", "0.6666666667"])
+
+    def where_digits_count(self):
+        """Return (a, b, digits) for which 40 digits of a by a + b tell another decimal than digits do."""
+        chance = random.Random(5)
+        found = []
+        for digits in (39, 41):
+            while True:
+                a, b = chance.randint(1, 10 ** 6), chance.randint(1, 10 ** 6)
+                told = [decimal_below(reduced((a << many) // (a + b), 1 << many), 10) for many in (40, digits)]
+                if told[0] != told[1]:
+                    found.append((a, b, digits))
+                    break
+        return tuple(found)
 
     def test_papers(self):
         house = a_house(300)

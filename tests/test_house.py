@@ -5,10 +5,10 @@ import random
 import unittest
 
 from tests.helpers import (
-    CAP, FIRSTS, ONE, PARITY, any_values, changed, cross, leaves_alone, lists_for_tuples, meets, some_models,
+    CAP, FIRSTS, LASTS, ONE, PARITY, any_values, changed, cross, leaves_alone, lists_for_tuples, meets, some_models,
     truths_for_numbers, weight_by_walks, words_of_length,
 )
-from tests.plain_rows import all_asks, ideals, plain_meaning
+from tests.plain_rows import all_asks, plain_meaning
 from tests.test_rows import MODEL, outcome
 from unwrittenrow.errors import Crossing, NoRow, Nothing, NotThere, RowError, TooClose, TooMany, Wrong
 from unwrittenrow.forms import are_coins, are_facts, is_block, is_model
@@ -359,8 +359,9 @@ class Equality(unittest.TestCase):
         same[0].write(3, "a")
         same[0].undo()
         same[1].ask(("letter", 4))
+        heavier = MODEL[:3] + (MODEL[3][:3] + ((1, "b", 1, 2),),)
         unlike = [House(EVEN, 10, (7, ()), 4), House(MODEL, 10, (7, ()), 4), House(MODEL, 9, (8, ()), 4),
-                  House(MODEL, 9, (7, (((), 0, True),)), 4), house.twin(), house.twin()]
+                  House(MODEL, 9, (7, (((), 0, True),)), 4), house.twin(), house.twin(), House(heavier, 9, (7, ()), 4)]
         unlike[4].write(3, "a")
         unlike[5].put_fact((0, 9, (0, 1, 2)))
         for other in same:
@@ -384,7 +385,7 @@ class Equality(unittest.TestCase):
         twin = house.twin()
         self.assertEqual(state_of(house), before)
         self.assertEqual(twin, house)
-        self.assertEqual(state_of(twin)[:-1], state_of(house)[:-1])
+        self.assertEqual(state_of(twin), before)
         twin.write(3, "a")
         twin.undo()
         twin.undo()
@@ -403,7 +404,7 @@ class Equality(unittest.TestCase):
 class OpenRow(unittest.TestCase):
     def houses(self, seed, sizes=(3, 6), rooms=(0,)):
         chance = random.Random(seed)
-        for at, model in enumerate([MODEL, EVEN] + some_models(93, 4, CAP, 3) + some_models(94, 4, FIRSTS, 2)):
+        for at, model in enumerate([MODEL, EVEN] + some_models(93, 4, CAP, 3) + some_models(94, 4, FIRSTS, 2) + some_models(96, 5, LASTS, 2)):
             for n in sizes:
                 for many in (0, 1, 3, n):
                     if raised(House, model, n, (at, ()), 0) is not None:
@@ -500,17 +501,13 @@ class OpenRow(unittest.TestCase):
         self.assertEqual([house.ask(("first", 0, 12, (2,))), house.ask(("last", 0, 12, (2,)))], [7, 7])
 
     def test_the_order_of_products_counts(self):
-        house = House((FIRSTS, (1,), (1,), ((0, "a", 0, 1), (0, "b", 0, 1))), 8, (3, ()), 0)
-        for x, letter in ((2, "b"), (5, "a")):
-            house.write(x, letter)
-        word = house.ask(("letters", 0, 8))
-        for i in range(9):
-            for j in range(i, 9):
-                self.assertEqual(house.ask(("measure", i, j)), plain_meaning(FIRSTS, word, ("measure", i, j)))
-                for lot in ideals(FIRSTS, True):
-                    self.assertEqual(house.ask(("first", i, j, lot)), plain_meaning(FIRSTS, word, ("first", i, j, lot)))
-                for lot in ideals(FIRSTS, False):
-                    self.assertEqual(house.ask(("last", i, j, lot)), plain_meaning(FIRSTS, word, ("last", i, j, lot)))
+        for measure in (FIRSTS, LASTS):
+            house = House((measure, (1,), (1,), ((0, "a", 0, 1), (0, "b", 0, 1))), 6, (3, ()), 9)
+            for x, letter in ((1, "b"), (4, "a")):
+                house.write(x, letter)
+            word = house.ask(("letters", 0, 6))
+            for question in all_asks(measure, 6):
+                self.assertEqual(house.ask(question), plain_meaning(measure, word, question))
 
     def test_too_close_by_the_first_of_the_parts(self):
         thirds = (ONE, (1,), (1,), ((0, "a", 0, 1), (0, "b", 0, 2)))
@@ -556,6 +553,42 @@ class OpenRow(unittest.TestCase):
             self.assertEqual(houses[0].remembered(), 0)
             self.assertGreater(houses[4].remembered(), 0)
 
+    def test_other_facts_make_what_is_remembered_worth_nothing(self):
+        questions = (("measure", 0, 12), ("letters", 0, 12), ("first", 0, 12, (2,)), ("last", 3, 12, (1, 2)))
+        steps = (
+            ("put_fact", (0, 9, (2,))), ("take_fact", (0, 9)), ("put_fact", (0, 9, (0, 1))), ("put_fact", (2, 4, (0,))),
+            ("take_fact", (2, 4)), ("put_fact", (2, 4, (1,))), ("undo",), ("undo",), ("undo",), ("put_fact", (0, 12, (2,))), ("undo",),
+            ("undo",), ("undo",), ("put_fact", (0, 3, (1,))), ("write", 3, "b"), ("undo",), ("undo",),
+        )
+        for seed in range(4):
+            for room in (10 ** 9, 6):
+                house = House(MODEL, 12, (seed, ()), room)
+                for name, *arguments in steps:
+                    getattr(house, name)(*(arguments if name == "write" else [tuple(one) for one in arguments]))
+                    for question in questions:
+                        new = House(MODEL, 12, (seed, ()), 0)
+                        for fact in house.facts():
+                            new.put_fact(fact)
+                        for x, letter in house.written().items():
+                            new.write(x, letter)
+                        self.assertEqual(house.ask(question), new.ask(question), (seed, house.facts(), question))
+                        self.assertEqual(papers_of(house, question), papers_of(new, question))
+                        self.assertLessEqual(house.remembered(), room)
+
+    def test_by_700_bits_and_400_coins(self):
+        for n in (FAR, FAR - 1):
+            house = House(MODEL, n, (3, ()), 0)
+            house.put_fact((5, 2 ** 90, (2,)))
+            for question in (("letter", 2 ** 99), ("measure", 7, 2 ** 50)):
+                expected = paper_of(MODEL, n, house.facts(), (3, ()), question, 700, 400)
+                self.assertEqual(papers_of(house, question)[0][2], expected)
+        # 0, 1, 0, 1 .. runs along the border behind a third part; the last one told leaves it.
+        thirds = (ONE, (1,), (1,), ((0, "a", 0, 1), (0, "b", 0, 2)))
+        for many, answer in ((399, "b"), (400, "a"), (401, None), (402, None)):
+            told = tuple([((1, 2), k, (k % 2 == 1) != (k == many - 1)) for k in range(many)])
+            found = outcome(House(thirds, 3, (0, told), 0).ask, ("letter", 1))
+            self.assertEqual(found, ("too close", (1, 2)) if answer is None else ("returned", answer))
+
     def test_what_is_told_may_be_changed(self):
         house = House(MODEL, 9, (7, ()), 40)
         house.write(4, "b")
@@ -586,6 +619,7 @@ class ArePapers(unittest.TestCase):
             others = [papers[:at] + papers[at + 1:] for at in range(len(papers))]
             others.extend([papers[:at] + papers[at:at + 1] + papers[at:] for at in range(len(papers))])
             others.extend([papers[::-1] + ((),), list(papers), papers + ((),), papers + (None,), (papers,)])
+            others.extend([papers + ((None,) + papers[0][1:],), ((None,) + papers[0][1:],) + papers[1:]])
             for at, (ask, its, paper) in enumerate(papers):
                 wrong = changed(ask) + truths_for_numbers(ask) + lists_for_tuples(ask)
                 others.extend([papers[:at] + ((one, its, paper),) + papers[at + 1:] for one in wrong])

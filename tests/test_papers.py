@@ -81,6 +81,16 @@ class AnswerBy(unittest.TestCase):
             found = answer_by(CAP, 1, (), ("letter", 0), (((), (0, 0, 1)), ((0, 1), letter)))
             self.assertEqual(found, (letter,) if fits else None)
 
+    def test_there_are_more_members_than_states(self):
+        turns = tuple([tuple([(x + y) % 8 for y in range(8)]) for x in range(8)])
+        measure = (turns, (("a", 1), ("b", 7)))
+        ask = ("measure", 0, 2)
+        self.assertEqual(answer_by(measure, 4, (), ask, (((), (0, 5, 7)), ((0, 4), (5, 6, 1)))), (6,))
+        self.assertEqual(answer_by(measure, 4, (), ask, (((), (5, 0, 6)), ((0, 4), (0, 7, 7)))), (7,))
+        for first, second in (((6, 0, 7), (0, 6, 1)), ((0, 6, 7), (0, 6, 1)), ((0, 0, 8), (0, 4, 4)), ((0, 0, 7), (6, 6, 1)),
+                              ((0, 0, 0), (0, 8, 0)), ((0, 0, 0), (0, 0, 8)), ((0, 0, 7), (0, 6, 2))):
+            self.assertIsNone(answer_by(measure, 4, (), ask, (((), first), ((0, 4), second))))
+
     def test_of_very_many_places(self):
         names = [((), (0, 0, 0))]
         for e in range(200, 0, -1):

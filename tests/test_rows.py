@@ -6,7 +6,7 @@ import unittest
 from fractions import Fraction
 
 from tests.helpers import (
-    CAP, FIRSTS, LONELY, ONE, PARITY, leaves_alone, meets, some_facts, some_measures, some_models, weight_by_walks,
+    CAP, FIRSTS, LASTS, LONELY, ONE, PARITY, leaves_alone, meets, some_facts, some_measures, some_models, weight_by_walks,
     words_of_length,
 )
 from tests.plain_rows import PlainRow, all_asks, ideals, plain_made, plain_meaning, plain_tree, plain_weights
@@ -18,7 +18,7 @@ from unwrittenrow.weights import total_under
 MODEL = (CAP, (1, 0), (1, 1), ((0, "a", 0, 3), (0, "b", 1, 1), (1, "a", 0, 2), (1, "b", 1, 1)))
 MODELS = (
     some_models(81, 8) + some_models(82, 6, CAP, 3) + some_models(83, 6, FIRSTS, 2, 10 ** 6) + some_models(84, 3, LONELY)
-    + [MODEL] + [model for at, measure in enumerate(some_measures(85, 6)) for model in some_models(at, 1, measure)]
+    + some_models(86, 6, LASTS, 2) + [MODEL] + [model for at, measure in enumerate(some_measures(85, 6)) for model in some_models(at, 1, measure)]
 )
 
 

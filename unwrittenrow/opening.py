@@ -69,8 +69,8 @@ class Opening:
             self.name, self.stand = block, stand
 
     def is_sought_in(self, stand):
-        """Tell whether the place that is sought is in a BLOCK of the STRETCH with a STAND."""
-        return self.kind in ("first", "last") and self.product_with(stand) in self.lot
+        """Tell whether the place that is sought, if one is, is in a BLOCK of the STRETCH with a STAND."""
+        return self.product_with(stand) in self.lot
 
     def product_with(self, stand):
         """Return the product so far with the MEMBER of a STAND beside it."""

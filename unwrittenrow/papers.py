@@ -1,7 +1,7 @@
 """PAPERS: TABLES, and STEPS that show by them what is MADE. What they say, by themselves."""
 
 from unwrittenrow.enclosures import exact_one, product_of
-from unwrittenrow.forms import MOST_STATES, is_letter, is_member, is_tuple, is_within
+from unwrittenrow.forms import MOST_STATES, is_member, is_tuple, is_within
 from unwrittenrow.opening import Opening
 from unwrittenrow.things import things_at
 
@@ -22,7 +22,7 @@ def _has_form(measure, opening, thing):
     if name == ():
         return is_tuple(thing, 3, 3) and _are_states(thing[:2]) and is_member(measure, thing[2])
     if name[1] - name[0] == 1:
-        return is_letter(thing) and (thing, stand[2]) in measure[1]
+        return (thing, stand[2]) in measure[1]
     if not (is_tuple(thing, 3, 3) and _are_states(thing[:1])):
         return False
     _, x, y = thing

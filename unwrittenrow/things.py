@@ -35,11 +35,10 @@ def _letters_between(model, stand):
 
 
 def _things_of_halves(model, stand, first, second):
-    table, states = model[0][0], range(len(model[1]))
     p, q, m = stand
     found = []
-    for r in states:
-        for x, row in enumerate(table):
+    for r in range(len(model[1])):
+        for x, row in enumerate(model[0][0]):
             if (p, r, x) not in first:
                 continue
             found.extend([
