@@ -3,8 +3,11 @@
 import copy
 import itertools
 import random
+import re
 
+from unwrittenrow.desk import Desk
 from unwrittenrow.errors import NoRow, NoText, RowError, Wrong
+from unwrittenrow.house import House
 
 
 def deep(depth):
@@ -16,7 +19,9 @@ def deep(depth):
 
 def any_values():
     """Return values of all kinds that a caller may pass where any value is taken."""
+    house = House(((((0,),), (("a", 0),)), (1,), (1,), ((0, "a", 0, 1),)), 5, (0, ()), 0)
     return [
+        house, Desk(house), (house,), [house], (house, 0), (0, house, ()), {0: house}, ((house,),),
         None, True, False, 0, 1, -1, 2, 7, 8, 10 ** 6, 10 ** 6 + 1, 10 ** 199, -(10 ** 199),
         "", "a", "b", "z", "A", "ab", "aB", "a b", " ", "~", "0", "\n", "a" * 3000, "{", "`",
         (), (0,), (1,), (True,), (0, 1), (1, 2), (1, 1), (0, 0), ("a", 0), ("a",), ((),), ((), ()),
@@ -283,5 +288,10 @@ def leaves_alone(test, call, *arguments):
     """Return what a call returns, having seen that it left its arguments as they were."""
     before = copy.deepcopy(arguments)
     result = call(*arguments)
-    test.assertEqual(repr(before), repr(arguments))
+    test.assertEqual(without_addresses(before), without_addresses(arguments))
     return result
+
+
+def without_addresses(thing):
+    """Return the repr of a thing, objects in it without where they are."""
+    return re.sub(" at 0x[0-9a-f]+>", ">", repr(thing))
